@@ -1,0 +1,1 @@
+"""Savedseats: a seat that is saved and given back along all ways of a web."""
