@@ -1,7 +1,7 @@
 """Webs: places, edges, an entry and exits, and the gates between them."""
 
-from savedseats.checks import is_below, is_number
-from savedseats.errors import BadEdge, BadEdges, BadEntry, BadExit, BadPlaces, Idle, NoExits, NoGate
+from savedseats.checks import check_gate, is_below, is_number
+from savedseats.errors import BadEdge, BadEdges, BadEntry, BadExit, BadPlaces, Idle, NoExits
 
 MOST_PLACES = 24
 MOST_EDGES = 80
@@ -38,8 +38,7 @@ class Web:
 
     def ends(self, gate):
         """The pair (from, to) of a gate."""
-        if not is_below(gate, self.gates):
-            raise NoGate(gate)
+        check_gate(self, gate)
         gate_in = self.gate_in()
         if gate < gate_in:
             return self.edges[gate]

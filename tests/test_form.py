@@ -23,6 +23,34 @@ INTERFACE = {
         ),
     },
     "ways": {"places_of": ["web", "way"], "steps_of": ["web", "way"]},
+    "lots": {
+        "Lot": (
+            ["places"],
+            {
+                "__le__": ["other"], "__or__": ["other"], "__and__": ["other"], "__sub__": ["other"],
+                "__contains__": ["place"], "__len__": [], "__eq__": ["other"], "__iter__": [],
+            },
+        ),
+        "Placing": (["saves", "backs"], {"__eq__": ["other"], "__len__": []}),
+        "placing_of": ["web", "lot"],
+        "played": ["web", "uses", "placing", "way"],
+    },
+    "verdicts": {
+        "Verdict": (["right", "paper"], {"__bool__": []}),
+        "judge": ["web", "uses", "placing"],
+        "shows_right": ["web", "uses", "placing", "lot"],
+        "shows_wrong": ["web", "uses", "placing", "way"],
+    },
+    "prices": {
+        "Prices": (
+            ["web", "saves", "backs"],
+            {
+                "__getitem__": ["at"], "__add__": ["other"], "__eq__": ["other"],
+                "with_price": ["gate", "word", "price"],
+            },
+        ),
+        "cost": ["web", "lot", "prices"],
+    },
 }
 
 BUILTINS = set(
@@ -177,6 +205,33 @@ class TestForm(unittest.TestCase):
                 self.assertTrue(name in METHODS or not name.startswith("__"), where)
                 if not isinstance(node, ast.keyword):
                     self.assertNotIn(name, vars(builtins), where)
+
+    def test_names_of_imports_are_not_bound_again(self):
+        for path in FILES:
+            tree = ast.parse(path.read_text())
+            imported = {
+                alias.name for node in tree.body if isinstance(node, ast.ImportFrom) for alias in node.names
+            }
+            for node in ast.walk(tree):
+                if not isinstance(node, ast.keyword):
+                    for name in bound_names(node):
+                        self.assertNotIn(name, imported, f"{path.name}:{getattr(node, 'lineno', 1)}")
+
+    def test_what_lots_bar(self):
+        # Lots have an order of their own, and both a length and an iteration.
+        for where, node in each_node():
+            if isinstance(node, ast.ImportFrom):
+                self.assertNotIn(node.module, ("heapq", "itertools"), where)
+            if isinstance(node, ast.Attribute):
+                self.assertNotEqual(node.attr, "sort", where)
+            if isinstance(node, ast.GeneratorExp):
+                self.fail(where)
+            if isinstance(node, ast.AugAssign):
+                self.assertIsInstance(node.value, ast.Constant, where)
+            if isinstance(node, ast.Call) and isinstance(node.func, ast.Name):
+                self.assertNotIn(node.func.id, ("min", "max", "reversed"), where)
+                if node.func.id == "sorted":
+                    self.assertEqual((node.args[0].func.id, node.keywords), ("set", []), where)
 
     def test_words(self):
         for path in FILES:
