@@ -51,6 +51,19 @@ INTERFACE = {
         ),
         "cost": ["web", "lot", "prices"],
     },
+    "flows": {
+        "arcs": ["web"],
+        "arc_ends": ["web", "arc"],
+        "value_of": ["web", "uses", "prices", "flow"],
+        "shows_least": ["web", "uses", "prices", "lot", "flow"],
+        "shows_barred": ["web", "uses", "prices", "row"],
+    },
+    "leastcost": {"Least": (["cost", "lot", "flow", "row"], {}), "least": ["web", "uses", "prices"]},
+    "best": {"best_lots": ["web", "uses", "prices"], "count_best": ["web", "uses", "prices"]},
+    "bends": {
+        "Bend": (["paying", "other"], {"price": None, "at": ["p"]}),
+        "bend": ["web", "uses", "prices", "gate", "word"],
+    },
 }
 
 BUILTINS = set(

@@ -1,0 +1,40 @@
+"""Best lots: those of the least cost."""
+
+from savedseats.checks import check_lot, check_prices
+from savedseats.cuts import least_cut
+from savedseats.errors import TooMany
+from savedseats.leastcost import least
+from savedseats.lots import Lot
+from savedseats.prices import cost
+from savedseats.webs import OUTSIDE
+
+MOST_TRIED = 12
+
+
+def best_lots(web, uses, prices):
+    """The pair of the least and the greatest best lot, or None if there is none."""
+    check_lot(web, uses)
+    check_prices(web, prices)
+    cut = least_cut(web, prices, uses.places, (OUTSIDE,))
+    if cut is None:
+        return None
+    return cut.smallest, cut.largest
+
+
+def count_best(web, uses, prices):
+    """The number of best lots; all lots are tried."""
+    least_cost = least(web, uses, prices).cost
+    if web.places > MOST_TRIED:
+        raise TooMany(web.places)
+    if least_cost is None:
+        return 0
+    return len([lot for lot in lots_with(web, uses) if cost(web, lot, prices) == least_cost])
+
+
+def lots_with(web, uses):
+    """The list of all lots with all the uses."""
+    rows = [uses.places]
+    for place in range(web.places):
+        if place not in uses:
+            rows = rows + [row + (place,) for row in rows]
+    return [Lot(row) for row in rows]
