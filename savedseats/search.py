@@ -7,15 +7,15 @@ def came_from(links, starts):
     Its nodes stand in the order of their distance from the starts.
     """
     came = {node: None for node in starts}
-    level = list(starts)
-    while level:
-        found = []
-        for node in level:
-            for other, label in links.get(node, []):
-                if other not in came:
-                    came[other] = (node, label)
-                    found.append(other)
-        level = found
+    waiting = list(came)
+    at = 0
+    while at < len(waiting):
+        node = waiting[at]
+        at += 1
+        for other, label in links.get(node, []):
+            if other not in came:
+                came[other] = (node, label)
+                waiting.append(other)
     return came
 
 
