@@ -24,11 +24,16 @@ def best_lots(web, uses, prices):
 def count_best(web, uses, prices):
     """The number of best lots; all lots are tried."""
     least_cost = least(web, uses, prices).cost
-    if web.places > MOST_TRIED:
-        raise TooMany(web.places)
+    check_tried(web)
     if least_cost is None:
         return 0
     return len([lot for lot in lots_with(web, uses) if cost(web, lot, prices) == least_cost])
+
+
+def check_tried(web):
+    """Raise an error if the web has too many places for all its lots to be tried."""
+    if web.places > MOST_TRIED:
+        raise TooMany(web.places)
 
 
 def lots_with(web, uses):

@@ -3,7 +3,8 @@
 from savedseats.checks import check_lot, check_placing
 from savedseats.errors import BadWay, NotWhole
 from savedseats.lots import Lot, gate_fault, place_fault, placing_of, played, saved_behind
-from savedseats.search import came_from, row_between, row_to
+from savedseats.rows import row_out
+from savedseats.search import came_from, row_to
 
 
 class Verdict:
@@ -58,14 +59,6 @@ def wrong_rest(web, uses, placing, state):
         if gate_fault(placing, saved, gate) is not None or saved_behind(placing, saved, gate):
             return []
     return None
-
-
-def row_out(web, place):
-    """A shortest row from a place to an exit, as a list."""
-    links = {}
-    for edge, (begin, end) in enumerate(web.edges):
-        links.setdefault(begin, []).append((end, edge))
-    return row_between(links, [place], web.exits)
 
 
 def shows_right(web, uses, placing, lot):

@@ -34,3 +34,9 @@ def steps_of(web, way):
         yield ("gate", edge)
         yield ("place", place)
     yield ("gate", web.gate_out(places[-1]))
+
+
+def gates_of(web, way):
+    """The list of the gates that a whole way goes through, each as often as it does."""
+    places = places_of_whole(web, way)
+    return [web.gate_in()] + list(way) + [web.gate_out(places[-1])]

@@ -23,6 +23,17 @@ NO_WAYS = (
 )
 
 
+# What is neither a pair of a way and heights, nor a triple of rows, nor heights, nor a whole way of any web here.
+NO_PAPERS = NO_WAYS + (
+    ((), (), ()), ((), ()), ((),) * 4, ((0, 1), None), (None, (0, 0, 0, 0)), (None, None), (None, None, None),
+    ("", "", ""), ("", ""), ("to", "round", "on"), ((0,), "12", (3,)), ((0,), None, (3,)), (0, 1, 2.0), (1, (0,)),
+    ([], [0], []), ((), [0], ()), ([], (0,), ()), ((), (0,), []), ((), (True,), ()), ((), (False,), ()),
+    ((False,), (0,), ()), ((), (None,), ()), ((), ("0",), ()), ((), (-1,), ()), ((), (99,), ()), ((), ((0,),), ()),
+    ((), {0: 0}, ()), ((), Lot([0]), ()), (Lot([]), (0,), ()), ((), (0,), Lot([])), [(), (0,), ()], [(), ()],
+    ((), [0]), ([], (0,)), ((), Lot([0])), ((), (None,)), ((), ("0",)), ((), (0.0,)), ((0, 1), [0, 0, 0, 0]),
+)
+
+
 class SeatCase(unittest.TestCase):
     def raises(self, error, value, told, *passed):
         """Check that the call raises this error with this value as its attribute; None stands for no attribute."""
@@ -140,3 +151,62 @@ def fault_of(web, uses, placing, way):
         elif kind == "place" and at in uses.places and seat == "clean":
             return (number, "used")
     return (len(steps), "left") if seat == "saved" else None
+
+
+def gates_along(web, way):
+    """The gates of a whole way, from the web's edges, entry and exits."""
+    place = web.entry
+    for edge in way:
+        assert web.edges[edge][0] == place
+        place = web.edges[edge][1]
+    return [len(web.edges), *way, len(web.edges) + 1 + list(web.exits).index(place)]
+
+
+def walked(web, start, follow):
+    """All pairs (place, what matters there) of ways: start is the first one, follow(what, edge, end) the next."""
+    seen, waiting = {(web.entry, start)}, [(web.entry, start)]
+    while waiting:
+        place, what = waiting.pop()
+        for edge, (begin, end) in enumerate(web.edges):
+            state = (end, follow(what, edge, end))
+            if begin == place and state not in seen:
+                seen.add(state)
+                waiting.append(state)
+    return seen
+
+
+def row_ends(web, place, row):
+    """Where a row that begins at a place ends; None if the value is no tuple of edges that follow each other."""
+    if row.__class__ is not tuple:
+        return None
+    for edge in row:
+        if edge.__class__ is not int or not 0 <= edge < len(web.edges) or web.edges[edge][0] != place:
+            return None
+        place = web.edges[edge][1]
+    return place
+
+
+def goes_round(web, paper):
+    """Whether the paper is a triple (to, round, on) as in point 31, whatever the round brings."""
+    if paper.__class__ is not tuple or len(paper) != 3:
+        return False
+    to, turn, on = paper
+    place = row_ends(web, web.entry, to)
+    if place is None or turn.__class__ is not tuple or not turn:
+        return False
+    return row_ends(web, place, turn) == place and row_ends(web, place, on) in web.exits
+
+
+def near_papers(rng, paper):
+    """Papers that differ from a paper, which is a tuple, in one place."""
+    at = rng.randrange(len(paper)) if paper else 0
+    found = [paper + (0,), paper + ((),), paper[:-1], list(paper), (paper,), paper[::-1]]
+    if paper:
+        inner = paper[at]
+        others = [None, True, "0", [], (), 0, -1, 10 ** 6]
+        if isinstance(inner, tuple):
+            others += [list(inner), inner + (0,), inner[:-1], inner[1:], inner + inner, inner[::-1]]
+        if isinstance(inner, int):
+            others += [inner + 1, inner - 1]
+        found += [paper[:at] + (other,) + paper[at + 1:] for other in others]
+    return found

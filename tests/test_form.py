@@ -64,6 +64,23 @@ INTERFACE = {
         "Bend": (["paying", "other"], {"price": None, "at": ["p"]}),
         "bend": ["web", "uses", "prices", "gate", "word"],
     },
+    "onway": {
+        "Most": (["number", "paper"], {}),
+        "most_saves": ["web", "lot"],
+        "shows_most": ["web", "lot", "number", "paper"],
+    },
+    "trying": {
+        "is_steady": ["web", "lot"],
+        "is_keen": ["web", "uses", "lot"],
+        "least_tried": ["web", "uses", "prices", "steady", "keen"],
+    },
+    "dearer": {
+        "Answer": (["found", "paper"], {"__bool__": []}),
+        "along": ["web", "prices", "lot", "way"],
+        "dearer": ["web", "prices", "first", "second"],
+        "shows_dearer": ["web", "prices", "first", "second", "paper"],
+        "shows_never": ["web", "prices", "first", "second", "paper"],
+    },
 }
 
 BUILTINS = set(
@@ -92,6 +109,34 @@ METHODS = set(
     " __ne__ __add__ __sub__ __mul__ __floordiv__ __mod__ __pow__ __and__ __or__ __xor__ __lshift__ __rshift__"
     " __neg__ __pos__ __invert__ __abs__ __bool__ __contains__ __getitem__ __setitem__".split()
 )
+
+
+CHANGING = set("append clear extend insert pop remove reverse setdefault update add discard".split())
+
+
+def names_in(node):
+    """The names that an expression reads."""
+    return {inner.id for inner in ast.walk(node) if isinstance(inner, ast.Name)}
+
+
+def same_values(function):
+    """Sets of names that may stand for one value, since one is assigned to another, in either order."""
+    groups = []
+    for node in ast.walk(function):
+        if isinstance(node, ast.Assign) and isinstance(node.value, (ast.Name, ast.IfExp, ast.BoolOp)):
+            groups.append(names_in(node.value).union(*[names_in(target) for target in node.targets]))
+    return groups
+
+
+def changed_names(rows):
+    """The names of lists and dicts that some statements change."""
+    found = set()
+    for node in [inner for row in rows for inner in ast.walk(row)]:
+        if isinstance(node, ast.Call) and isinstance(node.func, ast.Attribute) and node.func.attr in CHANGING:
+            found |= names_in(node.func.value)
+        if isinstance(node, ast.Subscript) and isinstance(node.ctx, (ast.Store, ast.Del)):
+            found |= names_in(node.value)
+    return found
 
 
 def bound_names(node):
@@ -245,6 +290,18 @@ class TestForm(unittest.TestCase):
                 self.assertNotIn(node.func.id, ("min", "max", "reversed"), where)
                 if node.func.id == "sorted":
                     self.assertEqual((node.args[0].func.id, node.keywords), ("set", []), where)
+
+    def test_what_a_loop_iterates_over_is_not_changed_in_it(self):
+        for path in FILES:
+            for function in ast.walk(ast.parse(path.read_text())):
+                if not isinstance(function, ast.FunctionDef):
+                    continue
+                groups = same_values(function)
+                for loop in [node for node in ast.walk(function) if isinstance(node, ast.For)]:
+                    walked = names_in(loop.iter)
+                    for _ in groups:
+                        walked = walked.union(*[group for group in groups if group & walked])
+                    self.assertEqual(walked & changed_names(loop.body), set(), f"{path.name}:{loop.lineno}")
 
     def test_words(self):
         for path in FILES:
