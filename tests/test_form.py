@@ -81,6 +81,31 @@ INTERFACE = {
         "shows_dearer": ["web", "prices", "first", "second", "paper"],
         "shows_never": ["web", "prices", "first", "second", "paper"],
     },
+    "tasks": {
+        "Task": (["web", "seats", "prices"], {"__eq__": ["other"], "uses": ["name"], "total": []}),
+        "edited": ["task", "edit"],
+        "mending": ["task", "menu", "bound"],
+    },
+    "table": {
+        "Table": (
+            ["start"],
+            {
+                "task": None, "deeds": None, "__getitem__": ["name"], "__setitem__": ["name", "places"],
+                "edit": ["change"], "undo": [], "total": [], "lots": [],
+            },
+        ),
+        "run_deeds": ["table", "deeds"],
+        "preview": ["table", "deeds"],
+    },
+    "texts": {
+        "write_web": ["web"],
+        "read_web": ["text"],
+        "write_prices": ["prices"],
+        "read_prices": ["web", "text"],
+        "write_placing": ["placing"],
+        "read_placing": ["text"],
+    },
+    "console": {"console": ["lines"]},
 }
 
 BUILTINS = set(
