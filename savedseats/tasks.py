@@ -116,8 +116,8 @@ def mending(task, menu, bound):
     edits = check_menu(task, menu)
     found = []
     for row in sets_below(len(edits)):
-        smaller = [numbers for numbers in found if has_all(row, numbers)]
-        if not smaller and not clashes([edits[number] for number in row]):
+        # Of two edits that clash the later one alone has the same total: sets with both never mend.
+        if not any([has_all(row, numbers) for numbers in found]):
             total = total_behind(task, [edits[number] for number in row])
             if total is not None and total <= bound:
                 found.append(row)
@@ -150,20 +150,6 @@ def sets_below(count):
 def has_all(row, numbers):
     """Whether all the numbers are in the row."""
     return all([number in row for number in numbers])
-
-
-def clashes(edits):
-    """Whether two of the edits set the same price, or put in and take out the same place."""
-    # No two edits of a menu are equal, so those of one target are two prices, or a use and a free.
-    targets = [edit_target(edit) for edit in edits]
-    return len(set(targets)) < len(targets)
-
-
-def edit_target(edit):
-    """What an edit changes: a price at a gate, or a place in the uses of a seat."""
-    if edit[0] == PRICE:
-        return edit[:3]
-    return (USE, edit[1], edit[2])
 
 
 def total_behind(task, edits):

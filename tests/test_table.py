@@ -301,6 +301,10 @@ class TestRunDeeds(SeatCase):
                 told = Task(DIAMOND, {"a": [3], "b": [0, 2]}, PRICES)
                 self.assertEqual((table.task, table.deeds), (told, 2))
 
+    def test_what_is_no_tuple(self):
+        for deed in (None, 5, "", "undo", "u", True):
+            self.raises(errors.BadDeed, 1, run_deeds, Table(TASK), [("undo",), deed])
+
     def test_errors_at_their_turn(self):
         first = ("set", "a", [3])
         for error, value, deeds in (

@@ -140,6 +140,10 @@ class TestTask(SeatCase):
         self.raises(errors.BadName, "", Task, DIAMOND, {"B": [0], "": [1], "A": [2], "a": [3]}, PRICES)
         self.raises(errors.BadName, "b1", Task, DIAMOND, {"c1": [0], "b1": [1], "a": [3]}, PRICES)
 
+    def test_what_is_no_name(self):
+        for name in (None, 5, ("a",)):
+            self.raises(errors.BadName, name, Task, DIAMOND, {name: [1]}, PRICES)
+
     def test_the_least_bad_place_of_the_first_seat(self):
         self.raises(errors.BadPlace, 4, Task, DIAMOND, {"a": [9, 4, 5, 1]}, PRICES)
         self.raises(errors.BadPlace, -2, Task, DIAMOND, {"a": [9, -1, 0, -2]}, PRICES)
@@ -152,6 +156,7 @@ class TestTask(SeatCase):
     def test_what_is_no_place(self):
         for place in (True, None, "0", (0,)):
             self.raises(errors.BadPlace, place, Task, DIAMOND, {"a": [place]}, PRICES)
+            self.raises(errors.BadPlace, place, Task, DIAMOND, {"a": [0, place, 9]}, PRICES)
 
     def test_order_of_errors(self):
         five = {name: [9] for name in ("A", "b", "c", "d", "e")}
@@ -257,6 +262,10 @@ class TestEdited(SeatCase):
                 edited(self.TASK, list(edit))
             self.assertIs(caught.exception.change.__class__, tuple)
             self.assertEqual(caught.exception.change, edit)
+
+    def test_what_is_no_tuple(self):
+        for edit in (None, 5, "", "use", True):
+            self.raises(errors.BadEdit, edit, edited, self.TASK, edit)
 
     def test_no_seat_then_bad_place(self):
         for word in ("use", "free"):
