@@ -1,7 +1,7 @@
 """What the least cost is, and whether it is best to pay, as one price changes."""
 
 from savedseats.checks import check_lot, check_prices
-from savedseats.cuts import least_cut
+from savedseats.cuts import full_net, smallest_lot
 from savedseats.flows import arc_ends
 from savedseats.leastcost import least
 from savedseats.prices import cost, lesser
@@ -45,7 +45,8 @@ def paying_cost(web, uses, prices, arc):
     """The least cost of the lots with all the uses out of which the arc leads, or None."""
     inner, outer = arc_ends(web, arc)
     # Where no lot can pay there, inner is OUTSIDE or outer, or outer is a use: there is no cut then.
-    cut = least_cut(web, prices, uses.places + (inner,), (OUTSIDE, outer))
-    if cut is None:
+    sources = uses.places + (inner,)
+    net = full_net(web, prices, sources, (OUTSIDE, outer))
+    if net is None:
         return None
-    return cost(web, cut.smallest, prices)
+    return cost(web, smallest_lot(web, net, sources), prices)

@@ -1,7 +1,7 @@
 """Best lots: those of the least cost."""
 
 from savedseats.checks import check_lot, check_prices
-from savedseats.cuts import least_cut
+from savedseats.cuts import full_net, largest_lot, smallest_lot
 from savedseats.errors import TooMany
 from savedseats.leastcost import least
 from savedseats.lots import Lot
@@ -15,10 +15,10 @@ def best_lots(web, uses, prices):
     """The pair of the least and the greatest best lot, or None if there is none."""
     check_lot(web, uses)
     check_prices(web, prices)
-    cut = least_cut(web, prices, uses.places, (OUTSIDE,))
-    if cut is None:
+    net = full_net(web, prices, uses.places, (OUTSIDE,))
+    if net is None:
         return None
-    return cut.smallest, cut.largest
+    return smallest_lot(web, net, uses.places), largest_lot(web, net, (OUTSIDE,))
 
 
 def count_best(web, uses, prices):

@@ -1,8 +1,7 @@
 """The least cost of the lots with all the uses."""
 
 from savedseats.checks import check_lot, check_prices
-from savedseats.cuts import barred_row, least_cut
-from savedseats.flows import value_of
+from savedseats.cuts import barred_row, full_net, smallest_lot
 from savedseats.webs import OUTSIDE
 
 
@@ -20,7 +19,8 @@ def least(web, uses, prices):
     """The least cost of all lots with all the uses, and its papers."""
     check_lot(web, uses)
     check_prices(web, prices)
-    cut = least_cut(web, prices, uses.places, (OUTSIDE,))
-    if cut is None:
+    net = full_net(web, prices, uses.places, (OUTSIDE,))
+    if net is None:
         return Least(None, None, None, barred_row(web, prices, uses.places, (OUTSIDE,)))
-    return Least(value_of(web, uses, prices, cut.flow), cut.smallest, cut.flow, None)
+    lot = smallest_lot(web, net, uses.places)
+    return Least(net.value, lot, net.flowing(), None)

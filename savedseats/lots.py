@@ -3,6 +3,7 @@
 from savedseats.checks import check_lot, check_placing, is_number
 from savedseats.errors import BadMark, BadPlace, TwoMarks
 from savedseats.ways import steps_of
+from savedseats.webs import gate_pairs
 
 SAVED_TWICE = "saved twice"
 NOT_SAVED = "not saved"
@@ -77,17 +78,24 @@ class Placing:
 
 def placing_of(web, lot):
     """The placing of a lot."""
+    saves, backs = marked_gates(web, lot)
+    return Placing(saves, backs)
+
+
+def marked_gates(web, lot):
+    """The lists of the gates with a save and of those with a back in the placing of a lot."""
     check_lot(web, lot)
+    inside = lot.places
     saves = []
     backs = []
-    for gate in range(web.gates):
+    for gate, (begin, end) in enumerate(gate_pairs(web)):
         # OUTSIDE is -1, so it is in no lot.
-        begin, end = web.ends(gate)
-        if begin not in lot and end in lot:
+        if begin in inside:
+            if end not in inside:
+                backs.append(gate)
+        elif end in inside:
             saves.append(gate)
-        if begin in lot and end not in lot:
-            backs.append(gate)
-    return Placing(saves, backs)
+    return saves, backs
 
 
 def played(web, uses, placing, way):

@@ -2,7 +2,7 @@
 
 from savedseats.checks import check_gate, check_lot, check_prices, is_below
 from savedseats.errors import BadLength, BadPrice, BadWord
-from savedseats.lots import placing_of
+from savedseats.lots import marked_gates
 
 MOST_PRICE = 100000
 SAVE = "save"
@@ -35,7 +35,7 @@ class Prices:
         gate, word = at
         check_gate(self.web, gate)
         check_word(word)
-        return self.saves[gate] if word == SAVE else self.backs[gate]
+        return price_at(self, gate, word)
 
     def __iter__(self):
         raise TypeError("prices are not iterated over")
@@ -61,6 +61,11 @@ class Prices:
         return Prices(self.web, saves, backs)
 
 
+def price_at(prices, gate, word):
+    """The price of a gate that there is by one of the words."""
+    return prices.saves[gate] if word == SAVE else prices.backs[gate]
+
+
 def check_row(row):
     """Raise an error for the first gate that has no price in a row of prices."""
     for gate, price in enumerate(row):
@@ -83,9 +88,9 @@ def cost(web, lot, prices):
     """The cost of a lot, or None."""
     check_lot(web, lot)
     check_prices(web, prices)
-    placing = placing_of(web, lot)
-    saves = [prices.saves[gate] for gate in placing.saves]
-    backs = [prices.backs[gate] for gate in placing.backs]
+    with_save, with_back = marked_gates(web, lot)
+    saves = [prices.saves[gate] for gate in with_save]
+    backs = [prices.backs[gate] for gate in with_back]
     return added(saves + backs)
 
 

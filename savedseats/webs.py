@@ -39,12 +39,7 @@ class Web:
     def ends(self, gate):
         """The pair (from, to) of a gate."""
         check_gate(self, gate)
-        gate_in = self.gate_in()
-        if gate < gate_in:
-            return self.edges[gate]
-        if gate == gate_in:
-            return OUTSIDE, self.entry
-        return self.exits[gate - gate_in - 1], OUTSIDE
+        return gate_pairs(self)[gate]
 
     def gate_in(self):
         """The number of IN."""
@@ -55,6 +50,11 @@ class Web:
         if place not in self.exits:
             raise BadExit(place)
         return self.gate_in() + 1 + self.exits.index(place)
+
+
+def gate_pairs(web):
+    """The tuple of the pairs (from, to) of all gates."""
+    return web.edges + ((OUTSIDE, web.entry),) + tuple([(place, OUTSIDE) for place in web.exits])
 
 
 def check_places(places):
