@@ -116,7 +116,7 @@ def mending(task, menu, bound):
     edits = check_menu(task, menu)
     found = []
     for row in sets_below(len(edits)):
-        # Of two edits that clash the later one alone has the same total: sets with both never mend.
+        # Where two edits clash, the set without the earlier one has the same total, so a set with both never mends.
         if not any([has_all(row, numbers) for numbers in found]):
             total = total_behind(task, [edits[number] for number in row])
             if total is not None and total <= bound:

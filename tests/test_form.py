@@ -316,6 +316,19 @@ class TestForm(unittest.TestCase):
                 if node.func.id == "sorted":
                     self.assertEqual((node.args[0].func.id, node.keywords), ("set", []), where)
 
+    def test_no_name_is_both_a_method_and_an_attribute(self):
+        methods, attributes = set(), set()
+        for _, node in each_node():
+            if isinstance(node, ast.ClassDef):
+                methods |= {inner.name for inner in node.body if isinstance(inner, ast.FunctionDef)}
+            if isinstance(node, ast.Attribute) and isinstance(node.ctx, (ast.Store, ast.Del)):
+                attributes.add(node.attr)
+        self.assertEqual(methods & attributes, set())
+        for _, node in each_node():
+            if isinstance(node, ast.Attribute) and node.attr.startswith("__"):
+                self.assertIn(node.attr, ("__class__", "__name__"))
+        self.assertNotIn("keys", methods | attributes)
+
     def test_what_a_loop_iterates_over_is_not_changed_in_it(self):
         for path in FILES:
             for function in ast.walk(ast.parse(path.read_text())):

@@ -171,6 +171,29 @@ class TestLeastCost(LeastCase):
             prices = drawn_prices(rng, web, rng.choice((1, 1, 2, 9)), 0)
             self.check_papers(web, uses, prices, least(web, uses, prices))
 
+    def test_a_web_of_many_edges_against_all_lots(self):
+        edges = [
+            (5, 5), (0, 5), (4, 1), (1, 0), (6, 3), (1, 2), (5, 2), (0, 0), (6, 1), (3, 1), (1, 1), (1, 3), (3, 2), (4, 5),
+            (0, 6), (5, 3), (2, 6), (4, 0), (6, 4), (0, 4), (3, 3), (0, 2), (4, 6), (1, 5), (1, 6), (5, 1), (2, 4), (3, 0),
+            (5, 4), (3, 4),
+        ]
+        web = Web(7, edges, 6, [4, 5])
+        rng = random.Random(12)
+        found_none = 0
+        for _ in range(60):
+            prices = drawn_prices(rng, web, rng.choice((9, 100000)), rng.choice((0, 0.1, 0.2, 0.3)))
+            for uses in (Lot([5]), Lot([2, 5]), Lot([1])):
+                found = least(web, uses, prices)
+                self.assertEqual(found.cost, least_of([cost_of(web, lot, prices) for lot in all_lots(web, uses)]))
+                self.check_papers(web, uses, prices, found)
+                found_none += found.cost is None
+        self.assertTrue(10 < found_none < 150)
+
+    def test_the_flow_has_just_the_arcs_along_which_something_flows(self):
+        for uses, price in ((Lot([1]), 1), (Lot([]), 1), (Lot(range(4)), 0), (Lot(range(4)), 2)):
+            prices = Prices(DIAMOND, [price] * 6, [price] * 6)
+            self.assertNotIn(0, least(DIAMOND, uses, prices).flow.values())
+
     def test_equal_web_that_was_built_again(self):
         again = Web(4, ([0, 1], [1, 3], [0, 2], [2, 3]), 0, (3, 3))
         self.assertEqual(least(again, Lot([1]), PRICES).cost, 6)
