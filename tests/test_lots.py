@@ -119,6 +119,7 @@ class TestPlacing(SeatCase):
         self.assertTrue(Placing([2, 1], [3]) == Placing((1, 2, 1), (3, 3)))
         self.assertTrue(Placing([1], [2]) != Placing([2], [1]))
         self.assertTrue(Placing([1], []) != Placing([1], [2]))
+        self.assertTrue(Placing([1], [2]) != Placing([3], [2]))
         self.assertTrue(Placing([1], []) != Placing([], [1]))
         for other in (((1,), ()), None, Lot([1])):
             self.assertFalse(Placing([1], []) == other)
