@@ -139,7 +139,10 @@ COMMANDS = {
 def console(lines):
     """The list of the answer lines to a list of command lines."""
     desk = Desk()
-    return [answer(desk, line) for line in lines]
+    answers = []
+    for line in lines:
+        answers.append(answer(desk, line))
+    return answers
 
 
 def answer(desk, line):

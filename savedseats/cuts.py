@@ -33,8 +33,8 @@ class Net:
         self.rooms.append(room)
         self.rooms.append(0)
 
-    def send(self, row):
-        """Send as much as can go along a row of links, where that has a bound."""
+    def lead(self, row):
+        """Lead as much as can go along a row of links, where that has a bound."""
         more = None
         for link in row:
             more = lesser(more, self.rooms[link])
@@ -70,7 +70,7 @@ def full_net(web, prices, sources, sinks):
     net = Net(web, prices)
     row = open_row(net, sources, sinks)
     while row is not None:
-        net.send(row)
+        net.lead(row)
         row = open_row(net, sources, sinks)
     return net
 
