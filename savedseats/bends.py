@@ -44,7 +44,7 @@ def bend(web, uses, prices, gate, word):
 def paying_cost(web, uses, prices, arc):
     """The least cost of the lots with all the uses out of which the arc leads, or None."""
     inner, outer = arc_ends(web, arc)
-    # Where no lot can pay there, inner is OUTSIDE or outer, or outer is a use: there is no cut then.
+    # Where no lot can pay there, inner is OUTSIDE or outer, or outer is a use: there is no net then.
     sources = uses.places + (inner,)
     net = full_net(web, prices, sources, (OUTSIDE, outer))
     if net is None:

@@ -63,7 +63,7 @@ class Net:
 def full_net(web, prices, sources, sinks):
     """A net with a greatest flow from the sources to the sinks, or None where that has no bound.
 
-    OUTSIDE is a sink. Where a place is both a source and a sink there are no such lots, so the cut is None.
+    OUTSIDE is a sink. It is None, too, where a place is both a source and a sink.
     """
     if barred_row(web, prices, sources, sinks) is not None:
         return None
@@ -109,12 +109,12 @@ def barred_row(web, prices, sources, sinks):
 
 
 def smallest_lot(web, net, sources):
-    """The lot in all lots out of which no more can flow."""
+    """The least of the lots with the sources out of which no more can flow."""
     found = came_from(net.open_links(), sources)
     return Lot([place for place in range(web.places) if place in found])
 
 
 def largest_lot(web, net, sinks):
-    """The lot in which all lots are out of which no more can flow."""
+    """The greatest of the lots without the sinks out of which no more can flow."""
     found = came_from(turned(net.open_links()), sinks)
     return Lot([place for place in range(web.places) if place not in found])
